@@ -9,6 +9,7 @@ import (
 	"pelorus/arith"
 	"pelorus/dy"
 	"pelorus/num"
+	"pelorus/sample"
 )
 
 // expectAdd fails the test unless lo and hi are the sum of two numbers to both sides, in either order, and that of
@@ -103,8 +104,8 @@ func apart() []int {
 func TestAddOfEachDistance(t *testing.T) { // P6.1, P6.4
 	for _, d := range apart() {
 		for _, e := range []int{minE + d, minE + d + 1, -63, maxE - 1, maxE} {
-			for _, m := range words() {
-				for _, n := range words() {
+			for _, m := range sample.Words() {
+				for _, n := range sample.Words() {
 					checkAdd(t, pos(m, e), pos(n, e-d))
 					checkAdd(t, pos(m, e), fin(true, n, e-d))
 				}
@@ -130,7 +131,7 @@ func TestAddOfOneBitBehind(t *testing.T) { // P6.1, P6.4
 	for low := range 64 {
 		m := uint64(1)<<low | high
 		for d := low + 55; d < low+70; d++ {
-			for _, n := range words() {
+			for _, n := range sample.Words() {
 				checkAdd(t, pos(n, 0), pos(m, -d))
 				checkAdd(t, pos(n, 0), fin(true, m, -d))
 			}
@@ -141,9 +142,9 @@ func TestAddOfOneBitBehind(t *testing.T) { // P6.1, P6.4
 func TestAddOfMany(t *testing.T) { // P6.1, P6.4
 	r := rand.New(rand.NewSource(1))
 	for range 20000 {
-		a := someNum(r)
+		a := sample.Num(r)
 		e := min(max(a.E+r.Intn(280)-140, minE), maxE)
-		checkAdd(t, a, fin(r.Intn(2) == 0, someWord(r), e))
+		checkAdd(t, a, fin(r.Intn(2) == 0, sample.Word(r), e))
 	}
 }
 
@@ -151,7 +152,7 @@ func TestAddOfMany(t *testing.T) { // P6.1, P6.4
 func TestAddOfNearlyTheSame(t *testing.T) { // P6.1, P6.4
 	r := rand.New(rand.NewSource(2))
 	for range 20000 {
-		a := someNum(r)
+		a := sample.Num(r)
 		b := a
 		for range r.Intn(4) {
 			b = num.Next(b, r.Intn(2) == 0)
@@ -170,7 +171,7 @@ func TestAddOfNearlyTheSame(t *testing.T) { // P6.1, P6.4
 func TestAddAsRound(t *testing.T) { // P6.1
 	r := rand.New(rand.NewSource(3))
 	for range 3000 {
-		a, b := someNum(r), someNum(r)
+		a, b := sample.Num(r), sample.Num(r)
 		b.E = min(max(a.E+r.Intn(280)-140, minE), maxE)
 		x, _ := num.Exact(a)
 		y, _ := num.Exact(b)
@@ -182,13 +183,13 @@ func TestAddAsRound(t *testing.T) { // P6.1
 }
 
 func TestAddOfNought(t *testing.T) { // P6.1
-	for _, n := range row() {
+	for _, n := range sample.Row() {
 		expectAdd(t, "with nought", n, api.Num{}, n, n)
 	}
 }
 
 func TestAddOfInfinite(t *testing.T) { // P6.1
-	for _, n := range row() {
+	for _, n := range sample.Row() {
 		if n != inf(true) {
 			expectAdd(t, "with infinite", n, inf(false), inf(false), inf(false))
 		}
@@ -216,8 +217,8 @@ func TestSub(t *testing.T) { // P6.1
 }
 
 func TestAddRises(t *testing.T) { // P6.4
-	l := row()
-	for _, c := range few() {
+	l := sample.Row()
+	for _, c := range sample.Few() {
 		for i := range l[1:] {
 			for _, up := range []bool{false, true} {
 				if num.Cmp(arith.Add(l[i], c, up), arith.Add(l[i+1], c, up)) > 0 {

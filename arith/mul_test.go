@@ -8,6 +8,7 @@ import (
 	"pelorus/arith"
 	"pelorus/dy"
 	"pelorus/num"
+	"pelorus/sample"
 )
 
 // expectMul fails the test unless lo and hi are the product of two numbers to both sides, in either order, and that
@@ -87,8 +88,8 @@ func sums() [][2]int {
 
 func TestMulOfEachExponent(t *testing.T) { // P6.2, P6.4
 	for _, e := range sums() {
-		for _, m := range words() {
-			for _, n := range words() {
+		for _, m := range sample.Words() {
+			for _, n := range sample.Words() {
 				checkMul(t, pos(m, e[0]), pos(n, e[1]))
 			}
 		}
@@ -98,11 +99,11 @@ func TestMulOfEachExponent(t *testing.T) { // P6.2, P6.4
 func TestMulOfMany(t *testing.T) { // P6.2, P6.4
 	r := rand.New(rand.NewSource(4))
 	for range 20000 {
-		a := fin(r.Intn(2) == 0, someWord(r), r.Intn(200)-100)
-		checkMul(t, a, fin(r.Intn(2) == 0, someWord(r), r.Intn(200)-100))
+		a := fin(r.Intn(2) == 0, sample.Word(r), r.Intn(200)-100)
+		checkMul(t, a, fin(r.Intn(2) == 0, sample.Word(r), r.Intn(200)-100))
 	}
 	for range 300 {
-		checkMul(t, someNum(r), someNum(r))
+		checkMul(t, sample.Num(r), sample.Num(r))
 	}
 }
 
@@ -110,7 +111,7 @@ func TestMulOfMany(t *testing.T) { // P6.2, P6.4
 func TestMulAsRound(t *testing.T) { // P6.2
 	r := rand.New(rand.NewSource(5))
 	for range 3000 {
-		a, b := someNum(r), someNum(r)
+		a, b := sample.Num(r), sample.Num(r)
 		x, _ := num.Exact(a)
 		y, _ := num.Exact(b)
 		for _, up := range []bool{false, true} {
@@ -120,7 +121,7 @@ func TestMulAsRound(t *testing.T) { // P6.2
 }
 
 func TestMulByNought(t *testing.T) { // P6.2
-	for _, n := range row() {
+	for _, n := range sample.Row() {
 		for _, up := range []bool{false, true} {
 			expect(t, "by nought", arith.Mul(n, api.Num{}, up), api.Num{})
 			expect(t, "nought by one", arith.Mul(api.Num{}, n, up), api.Num{})
@@ -129,7 +130,7 @@ func TestMulByNought(t *testing.T) { // P6.2
 }
 
 func TestMulByPowersOfTwo(t *testing.T) { // P6.2
-	for _, n := range row() {
+	for _, n := range sample.Row() {
 		expectMul(t, "by 1", n, num.Of(1), n, n)
 		if n.Kind != api.Finite {
 			continue
@@ -143,7 +144,7 @@ func TestMulByPowersOfTwo(t *testing.T) { // P6.2
 }
 
 func TestMulOfInfinite(t *testing.T) { // P6.2
-	for _, n := range row() {
+	for _, n := range sample.Row() {
 		if n.Kind == api.Zero {
 			continue // see TestMulByNought
 		}
@@ -154,8 +155,8 @@ func TestMulOfInfinite(t *testing.T) { // P6.2
 
 // TestMulRises has greater numbers times one that is not below nought.
 func TestMulRises(t *testing.T) { // P6.4
-	l := row()
-	for _, c := range few() {
+	l := sample.Row()
+	for _, c := range sample.Few() {
 		if c.Neg {
 			continue
 		}
@@ -191,7 +192,7 @@ func TestHalf(t *testing.T) { // P6.3
 	} {
 		expectBoth(t, "Half", arith.Half, c.n, c.lo, c.hi)
 	}
-	for _, n := range row() {
+	for _, n := range sample.Row() {
 		expectBoth(t, "Half as Mul", arith.Half, n, arith.Mul(n, pos(high, -64), false), arith.Mul(n, pos(high, -64), true))
 	}
 }
@@ -209,7 +210,7 @@ func TestTwice(t *testing.T) { // P6.3
 	} {
 		expectBoth(t, "Twice", arith.Twice, c.n, c.lo, c.hi)
 	}
-	for _, n := range row() {
+	for _, n := range sample.Row() {
 		expectBoth(t, "Twice as Mul", arith.Twice, n, arith.Mul(n, pos(high, -62), false), arith.Mul(n, pos(high, -62), true))
 		expectBoth(t, "Twice as Add", arith.Twice, n, arith.Add(n, n, false), arith.Add(n, n, true))
 	}

@@ -7,6 +7,7 @@ import (
 	"pelorus/api"
 	"pelorus/arith"
 	"pelorus/num"
+	"pelorus/sample"
 )
 
 // all are the answers of every call of two numbers, to one side.
@@ -28,12 +29,12 @@ func TestMayNotBeIsTakenForNought(t *testing.T) { // the chapter's Words
 			}
 		}
 	}
-	for _, bad := range mayNot() {
-		for _, n := range few() {
+	for _, bad := range sample.MayNot() {
+		for _, n := range sample.Few() {
 			check(bad, n, nought, n)
 			check(n, bad, n, nought)
 		}
-		for _, other := range mayNot() {
+		for _, other := range sample.MayNot() {
 			check(bad, other, nought, nought)
 		}
 	}
@@ -41,11 +42,11 @@ func TestMayNotBeIsTakenForNought(t *testing.T) { // the chapter's Words
 
 // TestAnswersMayBe holds, too, that no answer to below is above the one up, and that asking again answers the same.
 func TestAnswersMayBe(t *testing.T) { // P6.4, R5
-	for _, a := range append(row(), mayNot()...) {
-		for _, b := range few() {
+	for _, a := range append(sample.Row(), sample.MayNot()...) {
+		for _, b := range sample.Few() {
 			lo, hi := all(a, b, false), all(a, b, true)
 			for i := range lo {
-				if !mayBe(lo[i]) || !mayBe(hi[i]) || num.Cmp(lo[i], hi[i]) > 0 {
+				if !sample.MayBe(lo[i]) || !sample.MayBe(hi[i]) || num.Cmp(lo[i], hi[i]) > 0 {
 					t.Errorf("of %v and %v: %v, %v", a, b, lo[i], hi[i])
 				}
 			}

@@ -8,6 +8,7 @@ import (
 	"pelorus/api"
 	"pelorus/arith"
 	"pelorus/num"
+	"pelorus/sample"
 )
 
 // expectSum fails the test unless lo and hi are the sum of numbers to both sides, and that of their opposites is the
@@ -28,17 +29,17 @@ func TestSumOfFew(t *testing.T) { // P6.3
 	none := api.Num{}
 	expectSum(t, "none", none, none)
 	expectSum(t, "an empty list", none, none, []api.Num{}...)
-	for _, n := range row() {
+	for _, n := range sample.Row() {
 		expectSum(t, "one", n, n, n)
 	}
-	for _, n := range mayNot() {
+	for _, n := range sample.MayNot() {
 		for _, up := range []bool{false, true} {
 			expect(t, "Sum of one that may not be", arith.Sum(up, n), none)
 			expect(t, "Sum with one that may not be", arith.Sum(up, n, num.Of(3)), num.Of(3))
 		}
 	}
-	for _, a := range few() {
-		for _, b := range few() {
+	for _, a := range sample.Few() {
+		for _, b := range sample.Few() {
 			expectSum(t, "two", arith.Add(a, b, false), arith.Add(a, b, true), a, b)
 		}
 	}
@@ -76,7 +77,7 @@ func TestSumOfMany(t *testing.T) { // P6.3
 	for range 2000 {
 		l := make([]api.Num, 1+r.Intn(12))
 		for i := range l {
-			l[i] = fin(r.Intn(2) == 0, someWord(r), r.Intn(160)-80)
+			l[i] = fin(r.Intn(2) == 0, sample.Word(r), r.Intn(160)-80)
 		}
 		for _, up := range []bool{false, true} {
 			want, same := api.Num{}, l[0]
@@ -99,7 +100,7 @@ func TestSumBetween(t *testing.T) { // P6.4
 	for range 2000 {
 		l, v := make([]api.Num, r.Intn(12)), exactly(api.Num{})
 		for i := range l {
-			l[i] = fin(r.Intn(2) == 0, someWord(r), r.Intn(160)-80)
+			l[i] = fin(r.Intn(2) == 0, sample.Word(r), r.Intn(160)-80)
 			v = plus(v, exactly(l[i]))
 		}
 		lo, hi := arith.Sum(false, l...), arith.Sum(true, l...)
@@ -110,7 +111,7 @@ func TestSumBetween(t *testing.T) { // P6.4
 }
 
 func TestSumLeavesItsList(t *testing.T) { // R3, R5
-	l := append(few(), mayNot()...)
+	l := append(sample.Few(), sample.MayNot()...)
 	was := slices.Clone(l)
 	for range 2 {
 		expect(t, "Sum of all, up", arith.Sum(true, l...), inf(false))
