@@ -1,5 +1,5 @@
-// Package sample has the numbers with which the tests of several layers ask: those at the edges of their range, and
-// those that may not be. No layer calls it.
+// Package sample has the numbers and the intervals with which the tests of several layers ask: those at the edges of
+// their range, and those that may not be. No layer calls it.
 package sample
 
 import (
