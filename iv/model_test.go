@@ -20,7 +20,7 @@ const (
 var (
 	fin, pos, tiny, huge = sample.Fin, sample.Pos, sample.Tiny, sample.Huge
 	inf, power, minus    = sample.Inf, sample.Power, sample.Minus
-	from, none           = sample.Span, sample.None
+	from, none, less     = sample.Span, sample.None, sample.Less
 	nought               = api.Num{}
 	all                  = from(inf(true), inf(false))
 )
@@ -35,9 +35,6 @@ func opposite(x api.Iv) api.Iv {
 	}
 	return from(minus(x.Hi), minus(x.Lo))
 }
-
-// less tells whether one number is less than another one, by the library's; both may be.
-func less(a, b api.Num) bool { return sample.Float(a).Cmp(sample.Float(b)) < 0 }
 
 // has tells whether an interval has a finite number, or nought; both may be.
 func has(x api.Iv, n api.Num) bool { return !x.Empty && !less(n, x.Lo) && !less(x.Hi, n) }

@@ -1,23 +1,6 @@
 package sample
 
-import (
-	"math/big"
-
-	"pelorus/api"
-)
-
-// Float is a number as one of the library's, exactly; n may be.
-func Float(n api.Num) *big.Float {
-	out := new(big.Float)
-	if n.Kind == api.Inf {
-		return out.SetInf(n.Neg)
-	}
-	out.SetMantExp(new(big.Float).SetUint64(n.M), n.E)
-	if n.Neg {
-		out.Neg(out)
-	}
-	return out
-}
+import "pelorus/api"
 
 // Span is the interval from one number to another one, whether it may be or not.
 func Span(lo, hi api.Num) api.Iv { return api.Iv{Lo: lo, Hi: hi} }
@@ -33,7 +16,7 @@ func IvMayBe(x api.Iv) bool {
 	if !MayBe(x.Lo) || !MayBe(x.Hi) || x.Lo == Inf(false) || x.Hi == Inf(true) {
 		return false
 	}
-	return Float(x.Lo).Cmp(Float(x.Hi)) <= 0
+	return !Less(x.Hi, x.Lo)
 }
 
 // Ivs are intervals that may be: the empty one, and those from each of few numbers to each of them.

@@ -4,18 +4,8 @@ import (
 	"slices"
 	"testing"
 
-	"pelorus/num"
 	"pelorus/sample"
 )
-
-func TestFloatsRise(t *testing.T) {
-	row := sample.Row()
-	for i, a := range row[1:] {
-		if sample.Float(row[i]).Cmp(sample.Float(a)) >= 0 || num.Cmp(row[i], a) >= 0 {
-			t.Errorf("%v, %v do not rise", row[i], a)
-		}
-	}
-}
 
 func TestWhichIntervalsMayBe(t *testing.T) {
 	for _, x := range slices.Concat(sample.Ivs(), sample.FewIvs()) {

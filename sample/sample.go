@@ -3,6 +3,7 @@
 package sample
 
 import (
+	"cmp"
 	"math"
 	"slices"
 
@@ -78,6 +79,18 @@ func Few() []api.Num {
 		}
 	}
 	return out
+}
+
+// Less tells whether one number is less than another one; both may be.
+func Less(a, b api.Num) bool {
+	if a.Neg != b.Neg {
+		return a.Neg
+	}
+	if a.Neg {
+		a, b = b, a
+	}
+	// As M has its highest bit always, a greater E outweighs any M.
+	return cmp.Or(cmp.Compare(a.Kind, b.Kind), cmp.Compare(a.E, b.E), cmp.Compare(a.M, b.M)) < 0
 }
 
 // MayBe tells whether a number may be.

@@ -1,9 +1,11 @@
 package sample_test
 
 import (
+	"math/big"
 	"slices"
 	"testing"
 
+	"pelorus/api"
 	"pelorus/num"
 	"pelorus/sample"
 )
@@ -27,6 +29,30 @@ func TestWhatMayBe(t *testing.T) {
 	for _, n := range sample.MayNot() {
 		if sample.MayBe(n) {
 			t.Errorf("%v may not be", n)
+		}
+	}
+}
+
+// float is a number as one of the library's, exactly; n may be.
+func float(n api.Num) *big.Float {
+	out := new(big.Float)
+	if n.Kind == api.Inf {
+		return out.SetInf(n.Neg)
+	}
+	out.SetMantExp(new(big.Float).SetUint64(n.M), n.E)
+	if n.Neg {
+		out.Neg(out)
+	}
+	return out
+}
+
+func TestLessAsTheLibrary(t *testing.T) {
+	row := sample.Row()
+	for i, a := range row {
+		for j, b := range row {
+			if got, want := sample.Less(a, b), float(a).Cmp(float(b)) < 0; got != want || want != (i < j) {
+				t.Errorf("Less(%v, %v): %v", a, b, got)
+			}
 		}
 	}
 }
