@@ -23,6 +23,9 @@ var (
 	span, none           = sample.Span, sample.None
 )
 
+// wholeOf is a number of the library's as one of the program's.
+func wholeOf(n *big.Int) api.Whole { return sample.Whole(n) }
+
 // bit is 2^k, and a number more.
 func bit(k int, more int64) *big.Int {
 	out := new(big.Int).Lsh(big.NewInt(1), uint(k))
@@ -49,32 +52,13 @@ func hex(digits string) *big.Int {
 	return out
 }
 
-// limbs is a number of the library's as limbs, without its sign.
-func limbs(n *big.Int) []uint32 {
-	var m []uint32
-	bytes := n.Bytes()
-	for end := len(bytes); end > 0; end -= 4 {
-		limb := uint32(0)
-		for _, b := range bytes[max(end-4, 0):end] {
-			limb = limb<<8 | uint32(b)
-		}
-		m = append(m, limb)
-	}
-	return m
-}
-
-func wholeOf(n *big.Int) api.Whole { return api.Whole{Neg: n.Sign() < 0, M: limbs(n)} }
-
 // bigOf is a whole number as one of the library's; it fails the test if that may not be, by the words of chapter 2.
 func bigOf(t *testing.T, w api.Whole) *big.Int {
 	t.Helper()
-	if n := len(w.M); n == 0 && w.Neg || n > 0 && w.M[n-1] == 0 {
+	if !sample.WholeMayBe(w) {
 		t.Fatalf("%v may not be", w)
 	}
-	out := new(big.Int)
-	for k := range len(w.M) {
-		out.Lsh(out, 32).Or(out, new(big.Int).SetUint64(uint64(w.M[len(w.M)-1-k])))
-	}
+	out := new(big.Int).SetBytes(sample.Bytes(w.M))
 	if w.Neg {
 		out.Neg(out)
 	}

@@ -11,6 +11,7 @@ import (
 	"pelorus/num"
 	"pelorus/pi"
 	"pelorus/quot"
+	"pelorus/sample"
 )
 
 // part is Part of two numbers of the library's.
@@ -137,7 +138,7 @@ func TestPartOfFix(t *testing.T) { // P11.1, P11.4
 func TestPartOfWhatMayNotBe(t *testing.T) { // P11.4, the Words of chapter 2
 	loose := func(n *big.Int) []api.Whole {
 		w := wholeOf(n)
-		return []api.Whole{w, {Neg: w.Neg, M: append(limbs(n), 0)}, {Neg: w.Neg, M: append(limbs(n), 0, 0, 0, 0, 0, 0, 0)}}
+		return []api.Whole{w, {Neg: w.Neg, M: append(sample.Limbs(n), 0)}, {Neg: w.Neg, M: append(sample.Limbs(n), 0, 0, 0, 0, 0, 0, 0)}}
 	}
 	for _, lo := range []*big.Int{bit(scale, 1), opposite(bit(scale, 1)), big.NewInt(-1), bit(300, 1)} {
 		for _, hi := range []*big.Int{bit(400, -1), bit(scale, -1), opposite(bit(scale, -1)), big.NewInt(1)} {

@@ -106,21 +106,8 @@ func expect(t *testing.T, what string, got, want api.Num) {
 	}
 }
 
-// limbsOf is a number of the library's as limbs, without its sign.
-func limbsOf(n *big.Int) []uint32 {
-	var m []uint32
-	bytes := n.Bytes()
-	for end := len(bytes); end > 0; end -= 4 {
-		limb := uint32(0)
-		for _, b := range bytes[max(end-4, 0):end] {
-			limb = limb<<8 | uint32(b)
-		}
-		m = append(m, limb)
-	}
-	return m
-}
-
-func wholeOf(n *big.Int) api.Whole { return api.Whole{Neg: n.Sign() < 0, M: limbsOf(n)} }
+// wholeOf is a number of the library's as one of the program's.
+func wholeOf(n *big.Int) api.Whole { return sample.Whole(n) }
 
 // opposite is -n.
 func opposite(n *big.Int) *big.Int { return new(big.Int).Neg(n) }

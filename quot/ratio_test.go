@@ -8,6 +8,7 @@ import (
 	"pelorus/api"
 	"pelorus/num"
 	"pelorus/quot"
+	"pelorus/sample"
 	"pelorus/whole"
 )
 
@@ -141,7 +142,7 @@ func TestRatioByNought(t *testing.T) { // P7.3
 func TestRatioOfWhatMayNotBe(t *testing.T) { // P7.3, the Words of chapter 2
 	loose := func(n *big.Int) []api.Whole {
 		w := wholeOf(n)
-		return []api.Whole{w, {Neg: w.Neg, M: append(limbsOf(n), 0)}, {Neg: w.Neg, M: append(limbsOf(n), 0, 0, 0, 0, 0)}}
+		return []api.Whole{w, {Neg: w.Neg, M: append(sample.Limbs(n), 0)}, {Neg: w.Neg, M: append(sample.Limbs(n), 0, 0, 0, 0, 0)}}
 	}
 	for _, a := range wholes() {
 		for _, b := range []*big.Int{big.NewInt(1), big.NewInt(-3), bit(64, 1), opposite(bit(200, -1))} {
